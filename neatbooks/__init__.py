@@ -1,0 +1,1 @@
+"""Neatbooks: all the neat books that tell the same equalities."""
