@@ -1,0 +1,171 @@
+"""Papers that show two terms to be equal."""
+
+from neatbooks.closure import united
+from neatbooks.lores import need_term
+from neatbooks.shapes import are_numbers_below, is_number_below, is_tuple_of
+from neatbooks.trees import Bank, fits
+
+
+class Sheet:
+    """Writes a paper, its terms being told by their numbers in a bank."""
+
+    def __init__(self, bank, edges):
+        self.bank = bank
+        self.edges = edges
+        self.near = [[] for _ in bank.shapes]
+        for edge, (one, other, _) in enumerate(edges):
+            self.near[one].append((edge, other))
+            self.near[other].append((edge, one))
+        self.triples = []
+        self.known = {}
+
+    def path(self, one, other):
+        """The pairs (edge, number it leads to) of the way from one number to another one."""
+        came = {one: None}
+        left = [one]
+        while other not in came:
+            number = left.pop()
+            for edge, further in self.near[number]:
+                if further not in came:
+                    came[further] = (edge, number)
+                    left.append(further)
+        found = []
+        while came[other] is not None:
+            edge, number = came[other]
+            found.append((edge, other))
+            other = number
+        return found[::-1]
+
+    def parts(self, edge):
+        """The pairs of parts of what an edge leads from and to."""
+        one, other, _ = self.edges[edge]
+        return list(zip(self.bank.shapes[one][1], self.bank.shapes[other][1]))
+
+    def needed(self, one, other):
+        """The ascending list of the edges by which two numbers are equal: an edge needs elder ones alone."""
+        wanted = {edge: True for edge, _ in self.path(one, other)}
+        for edge in range(len(self.edges) - 1, -1, -1):
+            if edge in wanted and self.edges[edge][2] is None:
+                for part, other_part in self.parts(edge):
+                    for elder, _ in self.path(part, other_part):
+                        wanted[elder] = True
+        return sorted(wanted)
+
+    def put(self, one, other, reason):
+        """The number of the triple for two numbers, which is written if it is not there."""
+        if (one, other) not in self.known:
+            self.known[(one, other)] = len(self.triples)
+            self.triples.append((self.bank.terms[one], self.bank.terms[other], reason))
+        return self.known[(one, other)]
+
+    def step(self, one, other):
+        """The number of a triple for the two ends of an edge that is written."""
+        if (one, other) in self.known:
+            return self.known[(one, other)]
+        return self.put(one, other, ("turn", self.known[(other, one)]))
+
+    def lead(self, one, other):
+        """The number of a triple that leads from one number to another one, the edges between being written."""
+        path = self.path(one, other)
+        if len(path) == 0:
+            return self.put(one, other, ("same",))
+        last = path[0][1]
+        found = self.step(one, last)
+        for _, further in path[1:]:
+            found = self.put(one, further, ("on", found, self.step(last, further)))
+            last = further
+        return found
+
+    def write(self, edge):
+        """Writes an edge, the elder ones that it needs being written."""
+        one, other, line = self.edges[edge]
+        if line is None:
+            leads = [self.lead(part, other_part) for part, other_part in self.parts(edge)]
+            self.put(one, other, ("like", tuple(leads)))
+        else:
+            self.put(one, other, ("line", line))
+
+
+def paper(lore, term, other_term):
+    """A paper for two terms, None if they are not equal."""
+    need_term(lore, term)
+    need_term(lore, other_term)
+    bank = Bank()
+    pairs = bank.take_lines(lore.lines)
+    one = bank.take(term)
+    other = bank.take(other_term)
+    merger = united(bank.shapes, pairs)
+    if merger.home(one) != merger.home(other):
+        return None
+    sheet = Sheet(bank, merger.edges)
+    for edge in sheet.needed(one, other):
+        sheet.write(edge)
+    sheet.lead(one, other)
+    return sheet.triples
+
+
+class PaperJudge:
+    """Judges triple by triple; the pairs are the numbers of the terms of the triples ahead."""
+
+    def __init__(self, lore):
+        self.places = dict(lore.signs)
+        self.bank = Bank()
+        self.lines = self.bank.take_lines(lore.lines)
+        self.pairs = []
+
+    def lets(self, thing):
+        """Whether a thing is a triple that may stand next; if so it is kept."""
+        if not is_tuple_of(thing, 3) or not fits(self.places, thing[0]) or not fits(self.places, thing[1]):
+            return False
+        pair = (self.bank.take(thing[0]), self.bank.take(thing[1]))
+        if not self.is_reason(pair, thing[2]):
+            return False
+        self.pairs.append(pair)
+        return True
+
+    def is_reason(self, pair, thing):
+        """Whether a thing is a reason for a pair."""
+        if not isinstance(thing, tuple) or len(thing) == 0 or not isinstance(thing[0], str):
+            return False
+        if thing[0] == "same":
+            return len(thing) == 1 and pair[0] == pair[1]
+        if thing[0] == "on":
+            return len(thing) == 3 and self.is_on(pair, thing[1:])
+        if len(thing) != 2:
+            return False
+        if thing[0] == "line":
+            return is_number_below(thing[1], len(self.lines)) and self.lines[thing[1]] == pair
+        if thing[0] == "turn":
+            return is_number_below(thing[1], len(self.pairs)) and self.pairs[thing[1]] == (pair[1], pair[0])
+        return thing[0] == "like" and self.is_like(pair, thing[1])
+
+    def is_on(self, pair, numbers):
+        """Whether two numbers are of triples of which the one goes on to the other."""
+        if not are_numbers_below(numbers, len(self.pairs)):
+            return False
+        first = self.pairs[numbers[0]]
+        last = self.pairs[numbers[1]]
+        return first[0] == pair[0] and first[1] == last[0] and last[1] == pair[1]
+
+    def is_like(self, pair, thing):
+        """Whether a thing has the numbers of triples that lead from the parts of the one to those of the other."""
+        sign, parts = self.bank.shapes[pair[0]]
+        other_sign, other_parts = self.bank.shapes[pair[1]]
+        if sign != other_sign or not is_tuple_of(thing, len(parts)):
+            return False
+        if not are_numbers_below(thing, len(self.pairs)):
+            return False
+        return [self.pairs[k] for k in thing] == list(zip(parts, other_parts))
+
+
+def is_paper(lore, term, other_term, thing):
+    """Whether a thing is a paper for two terms."""
+    need_term(lore, term)
+    need_term(lore, other_term)
+    if not isinstance(thing, list) or len(thing) == 0:
+        return False
+    judge = PaperJudge(lore)
+    for triple in thing:
+        if not judge.lets(triple):
+            return False
+    return judge.pairs[-1] == (judge.bank.take(term), judge.bank.take(other_term))
