@@ -1,6 +1,6 @@
 """Which terms are equal by the lines, like for like: the classes of told terms and their ways."""
 
-from neatbooks.trees import Bank, order_key
+from neatbooks.trees import Bank, from_within, order_key
 
 
 class Merger:
@@ -81,3 +81,26 @@ class Hall:
     def worth(self):
         """How many more ways than classes there are."""
         return len(self.table) - len(self.classes)
+
+
+class Spots:
+    """Numbers for terms, equal ones having one: those of classes by a hall's table, behind these further ones."""
+
+    def __init__(self, table):
+        self.table = table
+        self.further = {}
+
+    def spot(self, sign, parts):
+        """The number of what is made of a sign and of parts with these numbers."""
+        way = (sign, parts)
+        if way in self.table:
+            return self.table[way]
+        return self.further.setdefault(way, len(self.table) + len(self.further))
+
+    def spot_of(self, term):
+        """The number of a term."""
+        return from_within(term, lambda sign, parts: self.spot(sign, parts))
+
+    def are_one(self, one, other):
+        """Whether two terms are equal."""
+        return self.spot_of(one) == self.spot_of(other)

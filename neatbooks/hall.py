@@ -1,6 +1,6 @@
 """The classes of a lore, what is equal by it, and its worth."""
 
-from neatbooks.closure import Hall
+from neatbooks.closure import Hall, Spots
 from neatbooks.lores import need_term, unbounded
 from neatbooks.trees import from_within
 
@@ -22,23 +22,11 @@ def class_of(lore, term):
     return from_within(term, lambda sign, parts: table.get((sign, parts)))
 
 
-def spot(table, further, sign, parts):
-    """The number of what is made in a way: a class's, or behind these a further one's."""
-    way = (sign, parts)
-    if way in table:
-        return table[way]
-    return further.setdefault(way, len(table) + len(further))
-
-
 def equal(lore, term, other_term):
     """Whether two terms are equal."""
     need_term(lore, term)
     need_term(lore, other_term)
-    table = Hall(lore).table
-    further = {}
-    one = from_within(term, lambda sign, parts: spot(table, further, sign, parts))
-    other = from_within(other_term, lambda sign, parts: spot(table, further, sign, parts))
-    return one == other
+    return Spots(Hall(lore).table).are_one(term, other_term)
 
 
 def worth(lore):

@@ -1,7 +1,7 @@
 """Picks: choices of a way for each class that do not go round."""
 
 from neatbooks.closure import Hall
-from neatbooks.errors import NoChoice, NoWishes
+from neatbooks.errors import NoChoice, NoPick, NoWishes
 from neatbooks.shapes import is_number_below, is_tuple_of
 
 
@@ -49,10 +49,20 @@ def shortest_ring(parts):
     return min([found for found in rings if found is not None], key=len, default=None)
 
 
+def is_pick_of(ways, thing):
+    """Whether a thing is a choice of some ways that does not go round."""
+    return is_choice(ways, thing) and all_made([[parts] for parts in chosen_parts(ways, thing)])
+
+
+def need_pick(ways, thing):
+    """Raises NoPick for what is no pick."""
+    if not is_pick_of(ways, thing):
+        raise NoPick()
+
+
 def is_pick(lore, thing):
     """Whether a thing is a choice that does not go round."""
-    ways = Hall(lore).ways
-    return is_choice(ways, thing) and all_made([[parts] for parts in chosen_parts(ways, thing)])
+    return is_pick_of(Hall(lore).ways, thing)
 
 
 def ring(lore, choice):

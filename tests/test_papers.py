@@ -8,7 +8,7 @@ from neatbooks.errors import NoTerm
 from neatbooks.lores import Lore, is_term
 from neatbooks.papers import is_paper, paper
 from tests.samples import A, B, BARE, C, FOUR, LOOP, REST, TWICE, TWO, WIDE, are_equal, chain, f, g, h, nested
-from tests.samples import odd_things, sixty_lines, some_lores, some_term
+from tests.samples import odd_things, replaced, sixty_lines, some_lores, some_term
 
 
 def number_below(thing, limit):
@@ -47,11 +47,6 @@ def slow_is_paper(lore, term, other_term, thing):
         if not is_term(lore, triple[0]) or not is_term(lore, triple[1]) or not holds(lore, thing[:number], triple):
             return False
     return thing[-1][:2] == (term, other_term)
-
-
-def replaced(thing, at, part):
-    """A list or tuple with another thing at a place."""
-    return thing[:at] + type(thing)([part]) + thing[at + 1:]
 
 
 def changed(rows):

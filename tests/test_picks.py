@@ -7,27 +7,8 @@ from neatbooks.errors import NoChoice, NoWishes
 from neatbooks.hall import ways
 from neatbooks.lores import Lore
 from neatbooks.picks import can_pick, completed, is_pick, is_ring, ring
-from tests.samples import A, B, BARE, C, FOUR, LOOP, TWICE, TWO, WIDE, chain, f, g, h, nested, odd_things
-from tests.samples import sixty_lines, some_lores
-
-
-def choices(lore):
-    """All choices of a lore, ascending."""
-    return list(product(*[range(len(row)) for row in ways(lore)]))
-
-
-def parts_of(lore, choice):
-    """For each class the set of the classes in its chosen way."""
-    return [set(row[number][1]) for row, number in zip(ways(lore), choice)]
-
-
-def goes_round(lore, choice):
-    """Whether some class stands among what it is made of: found by going on from class to class."""
-    reached = dict(enumerate(parts_of(lore, choice)))
-    for _ in choice:
-        for c in reached:
-            reached[c] = reached[c].union(*[reached[d] for d in reached[c]])
-    return any(c in reached[c] for c in reached)
+from tests.samples import A, B, BARE, C, FOUR, LOOP, TWO, WIDE, chain, choices, f, goes_round, h, nested
+from tests.samples import odd_things, parts_of, sixty_lines, small_lores, wrong_choices
 
 
 def rings(lore, choice, many):
@@ -35,11 +16,6 @@ def rings(lore, choice, many):
     parts = parts_of(lore, choice)
     return [row for row in permutations(range(len(choice)), many)
             if all(row[k - 1] in parts[row[k]] for k in range(many))]
-
-
-def small_lores():
-    found = [lore for lore in [LOOP, TWO, FOUR, TWICE, BARE] + some_lores(200, 5, 3) if len(ways(lore)) < 7]
-    return [lore for lore in found if len(choices(lore)) <= 60]
 
 
 # Three classes that can be made of one another, each on its own as well.
@@ -80,14 +56,6 @@ class Picks(unittest.TestCase):
         last = tuple(len(row) - 1 for row in ways(chained))
         self.assertIs(is_pick(chained, last), True)
         self.assertEqual(completed(chained, dict(enumerate(last))), last)
-
-
-def wrong_choices():
-    """What is no choice for TWO."""
-    return [
-        (0,), (0, 0, 0), (0, 2), (2, 0), (-1, 0), (0, -1), (False, 0), (0, True), [0, 0], ("0", 0), (None, None),
-        (0, (0,)), {0: 0, 1: 0}, "00", b"00", range(2), nested(lambda part: (0, part), 59),
-    ]
 
 
 class Rings(unittest.TestCase):
