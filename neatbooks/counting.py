@@ -3,7 +3,7 @@
 from neatbooks.closure import Hall
 from neatbooks.errors import NoNumber, TooMany
 from neatbooks.making import option_masks
-from neatbooks.picks import all_options, need_pick
+from neatbooks.picks import all_made, all_options, need_pick
 from neatbooks.shapes import is_number_below
 
 MOST_CHOOSING = 11
@@ -91,3 +91,20 @@ def pick_number(lore, pick):
             number += count_fitting(options)
         options[at] = [row[pick[at]]]
     return number
+
+
+def all_picks(ways):
+    """The list of all picks, ascending: each beginning of one is kept as long as what is left can be made."""
+    found = [()]
+    for row in ways:
+        longer = [pick + (way,) for pick in found for way in range(len(row))]
+        found = [pick for pick in longer if len(row) == 1 or can_go_on(ways, pick)]
+    return found
+
+
+def can_go_on(ways, beginning):
+    """Whether some pick begins with some chosen ways."""
+    options = all_options(ways)
+    for number, way in enumerate(beginning):
+        options[number] = [options[number][way]]
+    return all_made(options)

@@ -1,9 +1,10 @@
 """Papers that show two terms to be equal."""
 
 from neatbooks.closure import united
+from neatbooks.judging import TripleJudge
 from neatbooks.lores import need_term
 from neatbooks.shapes import are_numbers_below, is_number_below, is_tuple_of
-from neatbooks.trees import Bank, fits
+from neatbooks.trees import Bank
 
 
 class Sheet:
@@ -104,33 +105,17 @@ def paper(lore, term, other_term):
     return sheet.triples
 
 
-class PaperJudge:
-    """Judges triple by triple; the pairs are the numbers of the terms of the triples ahead."""
+class PaperJudge(TripleJudge):
+    """Judges the triples of a paper."""
 
-    def __init__(self, lore):
-        self.places = dict(lore.signs)
-        self.bank = Bank()
-        self.lines = self.bank.take_lines(lore.lines)
-        self.pairs = []
+    def __init__(self, lore, bank):
+        TripleJudge.__init__(self, lore, bank)
+        self.lines = bank.take_lines(lore.lines)
 
-    def lets(self, thing):
-        """Whether a thing is a triple that may stand next; if so it is kept."""
-        if not is_tuple_of(thing, 3) or not fits(self.places, thing[0]) or not fits(self.places, thing[1]):
-            return False
-        pair = (self.bank.take(thing[0]), self.bank.take(thing[1]))
-        if not self.is_reason(pair, thing[2]):
-            return False
-        self.pairs.append(pair)
-        return True
-
-    def is_reason(self, pair, thing):
-        """Whether a thing is a reason for a pair."""
-        if not isinstance(thing, tuple) or len(thing) == 0 or not isinstance(thing[0], str):
-            return False
+    def is_own_reason(self, pair, thing):
+        """Whether a tuple that begins with a word is a reason for a pair."""
         if thing[0] == "same":
             return len(thing) == 1 and pair[0] == pair[1]
-        if thing[0] == "on":
-            return len(thing) == 3 and self.is_on(pair, thing[1:])
         if len(thing) != 2:
             return False
         if thing[0] == "line":
@@ -138,14 +123,6 @@ class PaperJudge:
         if thing[0] == "turn":
             return is_number_below(thing[1], len(self.pairs)) and self.pairs[thing[1]] == (pair[1], pair[0])
         return thing[0] == "like" and self.is_like(pair, thing[1])
-
-    def is_on(self, pair, numbers):
-        """Whether two numbers are of triples of which the one goes on to the other."""
-        if not are_numbers_below(numbers, len(self.pairs)):
-            return False
-        first = self.pairs[numbers[0]]
-        last = self.pairs[numbers[1]]
-        return first[0] == pair[0] and first[1] == last[0] and last[1] == pair[1]
 
     def is_like(self, pair, thing):
         """Whether a thing has the numbers of triples that lead from the parts of the one to those of the other."""
@@ -162,10 +139,7 @@ def is_paper(lore, term, other_term, thing):
     """Whether a thing is a paper for two terms."""
     need_term(lore, term)
     need_term(lore, other_term)
-    if not isinstance(thing, list) or len(thing) == 0:
+    if not isinstance(thing, list):
         return False
-    judge = PaperJudge(lore)
-    for triple in thing:
-        if not judge.lets(triple):
-            return False
-    return judge.pairs[-1] == (judge.bank.take(term), judge.bank.take(other_term))
+    judge = PaperJudge(lore, Bank())
+    return judge.lets_all(thing) and judge.pairs[-1] == (judge.bank.take(term), judge.bank.take(other_term))
