@@ -122,6 +122,19 @@ def with_load(further):
     return Lore(signs, tuple((base, way) for way in made))
 
 
+def doubled_apart(many):
+    """A lore in which a and b are led, two of each by one sign, through so many pairs of classes, then to one class."""
+    signs = (("a", 0), ("b", 0)) + tuple((name, 2) for name in "cdefghijk"[:many]) + (("t", 1),)
+    names = {"a": A, "b": B, "c": ("c", A, A), "d": ("c", B, B), "e": ("d", ("c", A, A), ("c", A, A))}
+    pairs = ["ab", "cd", "eb", "ac", "ad", "bc", "bd", "ae", "ce", "de"][:many + 1]
+    lines = []
+    for (one, other), (further, last), (sign, _) in zip(pairs, pairs[1:], signs[2:]):
+        lines.append(((sign, names[one], names[one]), names[further]))
+        lines.append(((sign, names[other], names[other]), names[last]))
+    one, other = pairs[-1]
+    return Lore(signs, tuple(lines) + ((("t", names[one]), ("t", names[other])),))
+
+
 class Common(unittest.TestCase):
     def check(self, one, other, size=9, most=700):
         """Checks what both have in common by all small terms; tells whether there is a lore."""
@@ -274,6 +287,18 @@ class Common(unittest.TestCase):
         self.assertEqual(load(found), 3 + 3 + 3 * 3)
         self.assertTrue(alike(found, tied))
         self.assertTrue(self.check(one, tied))
+
+    def test_two_thousand_beyond_the_classes(self):
+        for many in range(2, 9):
+            tied = doubled_apart(many)
+            found = common(Lore(tied.signs, ((A, B),)), tied)
+            self.assertEqual((len(found.lines), load(found)), (1, 2 ** (many + 2)))
+            self.assertTrue(alike(found, common(tied, Lore(tied.signs, ((A, B),)))))
+            self.assertEqual(first_untold(tied, found), None)
+        tied = doubled_apart(9)
+        self.check_too_many(2000, lambda: common(Lore(tied.signs, ((A, B),)), tied))
+        self.check_too_many(2000, lambda: common(tied, Lore(tied.signs, ((B, A),))))
+        self.assertIs(endless(tied, Lore(tied.signs, ((A, B),))), None)
 
     def test_other_signs(self):
         for one, other in ((TWO, LOOP), (FOUR, TWO), (BARE, Lore(WIDE, ())), (

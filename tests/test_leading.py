@@ -38,12 +38,12 @@ def pairs_of_picks():
             yield (lore,) + pair
 
 
-def slow_is_changes(lore, pick, other_pick, thing):
-    """Judges changes word by word."""
+def slow_is_changes(picks, pick, other_pick, thing):
+    """Judges changes word by word, picks being all picks of a lore."""
     if type(thing) is not tuple or not thing or not all(type(part) is tuple for part in thing):
         return False
     for part in thing:
-        if not all(type(number) is int for number in part) or part not in picks_of(lore):
+        if not all(type(number) is int for number in part) or part not in picks:
             return False
     if thing[0] != pick or thing[-1] != other_pick:
         return False
@@ -141,11 +141,12 @@ class Judged(unittest.TestCase):
         seen = {True: 0, False: 0}
         for lore, pick, other_pick in pairs_of_picks():
             row = changes(lore, pick, other_pick)
+            picks = picks_of(lore)
             for thing in self.changed(row):
                 flag = is_changes(lore, pick, other_pick, thing)
-                self.assertIs(flag, slow_is_changes(lore, pick, other_pick, thing), thing)
+                self.assertIs(flag, slow_is_changes(picks, pick, other_pick, thing), thing)
                 seen[flag] += 1
-            if len(seen) > 1 and sum(seen.values()) > 9000:
+            if sum(seen.values()) > 9000:
                 break
         self.assertGreater(seen[True], 10)
         self.assertGreater(seen[False], 3000)
