@@ -136,6 +136,16 @@ class Bars(unittest.TestCase):
         self.assertGreater(len(found), 10)
         self.assertGreater(deepest, 3)
 
+    def test_what_stands_above_the_upper_one_of_a_case(self):
+        # With a above b, f(a) stands above b, so g(f(a)) above g(b); with b above a, h(b, b) above h(a, a).
+        lore = Lore(WIDE, ((h(A, A), h(B, B)), (g(B), g(f(A)))))
+        rules = ((h(A, A), h(B, B)), (g(B), g(f(A))))
+        self.assertIs(ranks(lore, rules), None)
+        for row in (rules, rules[::-1]):
+            thing = bar(lore, row)
+            self.assertIs(is_bar(lore, row, thing), True)
+            self.assertTrue(slow_is_bar(lore, row, thing))
+
     def test_with_one_thing_changed(self):
         random = Random(17)
         seen = {True: 0, False: 0}
@@ -177,6 +187,13 @@ class Cases(unittest.TestCase):
         self.check(True, ("cases", A, B) + both)
         for one, other in ((A, A), (A, f(f(A))), (g(g(A)), B), (A, C), (A, ["b"]), (A, None), ("a", "b"), (f(A), B)):
             self.check(False, ("cases", one, other) + both)
+
+    def test_terms_of_cases_that_are_not_needed(self):
+        self.check(True, ("cases", f(A), B, BAR, BAR))
+        self.check(True, ("cases", B, g(A), BAR, BAR))
+        for one, other in ((A, A), (g(B), g(B)), (A, f(f(A))), (f(g(B)), A), (A, C), (C, B), (f(f(A)), g(g(A)))):
+            self.check(False, ("cases", one, other, BAR, BAR))
+            self.check(False, ("cases", A, B, ("cases", one, other, ("ring", UP), ("ring", UP)), ("ring", DOWN)))
 
     def test_cases_that_are_not_needed(self):
         self.check(True, ("cases", f(A), g(B), BAR, BAR))

@@ -5,11 +5,14 @@ from math import lcm
 from random import Random
 
 from neatbooks.changing import with_line
-from neatbooks.common import common, endless, is_endless, line_of
+from neatbooks.closure import Hall
+from neatbooks.common import common, endless, is_endless, line_of, ties_of
 from neatbooks.errors import NoEndless, NoNumber, OtherSigns, TooMany
+from neatbooks.gathering import Gathering, Spread
 from neatbooks.hall import classes, equal, ways
 from neatbooks.lines import alike, first_untold, load
 from neatbooks.lores import Lore, is_term
+from neatbooks.meeting import Meeting
 from tests.samples import A, B, BARE, C, FOUR, LOOP, ONE, REST, TWICE, TWO, WIDE, are_equal, chain, f, g, h, how_great
 from tests.samples import nested, odd_things, replaced, some_term, spots_of, told
 
@@ -135,6 +138,16 @@ def doubled_apart(many):
     return Lore(signs, tuple(lines) + ((("t", names[one]), ("t", names[other])),))
 
 
+def weighed(one, other):
+    """The load of what two lores tell in common, as it is told ahead of the lore itself."""
+    gathering = Gathering()
+    for row in Meeting(Hall(one), Hall(other)).sized_ways():
+        gathering.gather(row)
+    for tie in ties_of(Hall(one), Hall(other)):
+        Spread(tie, one.signs, gathering).go()
+    return gathering.weight
+
+
 class Common(unittest.TestCase):
     def check(self, one, other, size=9, most=700):
         """Checks what both have in common by all small terms; tells whether there is a lore."""
@@ -146,6 +159,7 @@ class Common(unittest.TestCase):
             return False
         self.assertEqual(found.signs, one.signs)
         self.assertIs(type(found), Lore)
+        self.assertEqual(load(found), weighed(one, other))
         terms = small_terms(one.signs, size, most)
         both = list(zip(marks_of(one, terms), marks_of(other, terms)))
         found_marks = marks_of(found, terms)
@@ -300,6 +314,41 @@ class Common(unittest.TestCase):
         self.check_too_many(2000, lambda: common(tied, Lore(tied.signs, ((B, A),))))
         self.assertIs(endless(tied, Lore(tied.signs, ((A, B),))), None)
 
+    def test_near_two_thousand_beyond_the_classes(self):
+        tied = doubled_apart(8)
+        # The pairs of classes have terms of 1, 3, 7, .. 511 signs; t makes its class of five of them, u of one or two.
+        tied = Lore(tied.signs + (("u", 1),), tied.lines)
+        names = {"a": A, "b": B, "c": ("c", A, A), "d": ("c", B, B), "e": ("d", ("c", A, A), ("c", A, A))}
+        rows = [("t", "b"), ("t", "d"), ("u", "a"), ("u", "e"), ("u", "d")]
+        for sign, name in rows[:4]:
+            tied = with_line(tied, (("t", names["c"]), (sign, names[name])))
+        self.assertEqual(len(classes(tied)), 6)
+        free = Lore(tied.signs, ((A, B),))
+        self.assertEqual(load(common(free, tied)), 8 + 16 + 128 + 256 + 1024 + 512)
+        self.assertEqual(first_untold(tied, common(tied, free)), None)
+        tied = with_line(tied, (("t", names["c"]), ("u", names["d"])))
+        self.check_too_many(2000, lambda: common(free, tied))
+
+    def test_signs_that_the_free_lore_does_not_tell(self):
+        signs = (("a", 0), ("b", 0), ("c", 0), ("f", 1), ("h", 2))
+        one = Lore(signs, ((A, B),))
+        for lines in (
+            ((h(C, A), h(C, B)),), ((h(A, C), h(B, C)),), ((h(C, A), h(C, B)), (h(A, C), h(B, C))),
+            ((h(f(C), A), h(f(C), B)),), ((h(B, f(C)), h(A, f(C))),), ((h(h(C, C), A), h(h(C, C), B)),),
+            ((h(f(A), C), h(f(B), C)),), ((h(C, f(A)), h(C, f(B))),),
+        ):
+            tied = Lore(signs, lines)
+            self.assertTrue(alike(common(one, tied), tied))
+            self.assertTrue(self.check(one, tied) and self.check(tied, one))
+
+    def test_a_class_of_two_ways_within_others(self):
+        signs = (("a", 0), ("b", 0), ("f", 1), ("g", 1), ("h", 2))
+        one = Lore(signs, ((A, f(B)),))
+        tied = Lore(signs, ((g(A), g(f(B))), (h(g(A), A), h(g(A), f(B)))))
+        self.assertTrue(self.check(one, tied) and self.check(tied, one))
+        self.assertTrue(alike(common(one, tied), tied))
+        self.assertEqual(load(common(one, tied)), 2 + 3 + 4 + 5)
+
     def test_other_signs(self):
         for one, other in ((TWO, LOOP), (FOUR, TWO), (BARE, Lore(WIDE, ())), (
                 Lore((("a", 0), ("f", 2)), ()), Lore((("a", 0), ("f", 1)), ()))):
@@ -358,6 +407,24 @@ class Endless(unittest.TestCase):
         self.check(False, (0, A, B, f(HOLE), f(HOLE), f(HOLE), f(HOLE)))
         self.check(False, (0, A, A, f(HOLE), f(HOLE), g(HOLE), g(HOLE)))
         self.check(False, (0, A, B, f(HOLE), f(HOLE), f(g(HOLE)), f(g(HOLE))))
+
+    def test_both_rings_must_lead_back(self):
+        for line, other_line in ((round_of(1), round_of(1, B)), (round_of(1), round_of(2, B)), (round_of(2), round_of(1, B))):
+            right = line == round_of(1) and other_line == round_of(1, B)
+            self.check(right, EXAMPLE, ONE, Lore(FOUR.signs, (line, other_line, (g(A), g(B)))))
+        self.check(False, EXAMPLE, ONE, Lore(FOUR.signs, (round_of(1), (g(A), g(B)))))
+        self.check(False, EXAMPLE, ONE, Lore(FOUR.signs, (round_of(1, B), (g(A), g(B)))))
+
+    def test_a_sign_above_the_hole(self):
+        self.check(True, (0, f(A), f(B), f(HOLE), f(HOLE), g(HOLE), g(HOLE)))
+        self.check(False, (0, f(A), f(B), HOLE, HOLE, g(HOLE), g(HOLE)))
+        tied = Lore(FOUR.signs, ((f(g(A)), g(A)), (g(A), g(B))))
+        self.check(False, (0, g(A), g(B), f(HOLE), f(HOLE), HOLE, HOLE), ONE, tied)
+
+    def test_which_one_is_free(self):
+        for which in (0, 1, 2, 3, -1, True, False):
+            self.check(type(which) is int and which == 0, (which,) + EXAMPLE[1:])
+            self.check(type(which) is int and which == 1, (which,) + EXAMPLE[1:], REST, ONE)
 
     def test_the_ring_must_lead_out_of_the_told_terms(self):
         free = Lore(FOUR.signs, ((A, B), (f(A), A)))
