@@ -3,9 +3,8 @@
 from neatbooks.books import need_work
 from neatbooks.judging import TripleJudge
 from neatbooks.lores import is_term
-from neatbooks.orders import bank_of, need_few_terms
+from neatbooks.orders import bank_of, searched
 from neatbooks.shapes import is_number_below, is_tuple_of
-from neatbooks.standing import Frame, search
 
 
 class Log:
@@ -113,11 +112,7 @@ def shown_tree(frame, terms, tree, cases):
 
 def bar(lore, book):
     """A bar, None if the book has ranks."""
-    need_work(lore, book)
-    bank, pairs = bank_of(book)
-    need_few_terms(bank.shapes)
-    frame = Frame(bank.shapes, pairs)
-    below, tree = search(frame, frame.start())
+    bank, frame, below, tree = searched(lore, book)
     if below is not None:
         return None
     return shown_tree(frame, bank.terms, tree, [])
@@ -144,19 +139,15 @@ class LogJudge(TripleJudge):
             return is_number_below(thing[1], len(self.rules)) and self.rules[thing[1]] == pair
         return thing[0] == "like" and self.is_like(pair, thing[1])
 
-    def is_like(self, pair, thing):
-        """Whether a thing tells for each place that the parts are one term or by which triple they stand so."""
-        sign, parts = self.bank.shapes[pair[0]]
-        other_sign, other_parts = self.bank.shapes[pair[1]]
-        if sign != other_sign or not is_tuple_of(thing, len(parts)):
-            return False
-        for part, other_part, number in zip(parts, other_parts, thing):
-            if part == other_part:
+    def are_likes(self, rows, things):
+        """Whether the things tell for each pair of parts that both are one or by which triple they stand so."""
+        for row, number in zip(rows, things):
+            if row[0] == row[1]:
                 if number is not None:
                     return False
-            elif not is_number_below(number, len(self.pairs)) or self.pairs[number] != (part, other_part):
+            elif not is_number_below(number, len(self.pairs)) or self.pairs[number] != row:
                 return False
-        return parts != other_parts
+        return any([part != other_part for part, other_part in rows])
 
     def is_ring(self, thing):
         """Whether a thing is a tuple of triples the last of which has one term twice."""

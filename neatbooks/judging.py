@@ -48,3 +48,15 @@ class TripleJudge:
         first = self.pairs[numbers[0]]
         last = self.pairs[numbers[1]]
         return first[0] == pair[0] and first[1] == last[0] and last[1] == pair[1]
+
+    def is_like(self, pair, thing):
+        """Whether a thing tells, for two terms of one sign, how their parts stand to one another, place by place."""
+        sign, parts = self.bank.shapes[pair[0]]
+        other_sign, other_parts = self.bank.shapes[pair[1]]
+        if sign != other_sign or not is_tuple_of(thing, len(parts)):
+            return False
+        return self.are_likes(list(zip(parts, other_parts)), thing)
+
+    def are_likes(self, rows, things):
+        """Whether things tell it for the pairs of parts: each kind of judge says how."""
+        return False

@@ -27,13 +27,19 @@ def bank_of(book):
     return (bank, pairs)
 
 
-def ranks(lore, book):
-    """Ranks for a book, None if there are none."""
+def searched(lore, book):
+    """A bank of a book's terms and their frame, with what the search for an order of them finds."""
     need_work(lore, book)
     bank, pairs = bank_of(book)
     need_few_terms(bank.shapes)
     frame = Frame(bank.shapes, pairs)
-    below, _ = search(frame, frame.start())
+    below, tree = search(frame, frame.start())
+    return (bank, frame, below, tree)
+
+
+def ranks(lore, book):
+    """Ranks for a book, None if there are none."""
+    bank, _, below, _ = searched(lore, book)
     if below is None:
         return None
     return [bank.terms[number] for number in in_order(below)]

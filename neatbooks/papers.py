@@ -3,7 +3,7 @@
 from neatbooks.closure import united
 from neatbooks.judging import TripleJudge
 from neatbooks.lores import need_term
-from neatbooks.shapes import are_numbers_below, is_number_below, is_tuple_of
+from neatbooks.shapes import are_numbers_below, is_number_below
 from neatbooks.trees import Bank
 
 
@@ -124,15 +124,9 @@ class PaperJudge(TripleJudge):
             return is_number_below(thing[1], len(self.pairs)) and self.pairs[thing[1]] == (pair[1], pair[0])
         return thing[0] == "like" and self.is_like(pair, thing[1])
 
-    def is_like(self, pair, thing):
-        """Whether a thing has the numbers of triples that lead from the parts of the one to those of the other."""
-        sign, parts = self.bank.shapes[pair[0]]
-        other_sign, other_parts = self.bank.shapes[pair[1]]
-        if sign != other_sign or not is_tuple_of(thing, len(parts)):
-            return False
-        if not are_numbers_below(thing, len(self.pairs)):
-            return False
-        return [self.pairs[k] for k in thing] == list(zip(parts, other_parts))
+    def are_likes(self, rows, things):
+        """Whether the things are the numbers of triples that lead from part to part."""
+        return are_numbers_below(things, len(self.pairs)) and [self.pairs[k] for k in things] == rows
 
 
 def is_paper(lore, term, other_term, thing):
