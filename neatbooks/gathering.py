@@ -7,6 +7,12 @@ from neatbooks.trees import order_key
 MOST_LOAD = 2000
 
 
+def class_lines(ways):
+    """The list of the lines that make one class of what is made in some ways, each a pair (size, term)."""
+    terms = sorted([term for _, term in ways], key=order_key)
+    return [(terms[0], term) for term in terms[1:]]
+
+
 class Gathering:
     """The lines that make classes of what is least made in their ways, and the load of these."""
 
@@ -21,9 +27,7 @@ class Gathering:
         self.weight += sum([size for size, _ in ways])
         if self.weight > MOST_LOAD:
             raise TooMany(MOST_LOAD)
-        terms = sorted([term for _, term in ways], key=order_key)
-        for term in terms[1:]:
-            self.lines.append((terms[0], term))
+        self.lines.extend(class_lines(ways))
 
 
 class Spread:

@@ -50,6 +50,31 @@ def least_costs(rows):
     return found
 
 
+class Least:
+    """A least term for each thing that can be made by rows as least_costs asks for them, their notes being signs."""
+
+    def __init__(self, rows):
+        self.rows = rows
+        self.costs = least_costs(rows)
+        self.least = {}
+        for made, (_, number) in self.costs.items():
+            _, _, parts, sign = rows[number]
+            self.least[made] = self.term_of(sign, parts)
+
+    def term_of(self, sign, parts):
+        """The term that a sign makes of the least ones of its parts."""
+        return (sign,) + tuple([self.least[part] for part in parts])
+
+    def sized_ways(self):
+        """For each thing the list of the pairs (size, term), one for each of its ways, of what is least made in it."""
+        found = {}
+        for made, cost, parts, sign in self.rows:
+            if all([part in self.costs for part in parts]):
+                size = cost + sum([self.costs[part][0] for part in parts])
+                found.setdefault(made, []).append((size, self.term_of(sign, parts)))
+        return list(found.values())
+
+
 def joint_mask(masks, parts):
     """The mask of all that some things need."""
     found = 0

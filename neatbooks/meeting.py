@@ -1,6 +1,6 @@
 """Two halls held against one another: which classes meet, and what they tell beyond one another's classes."""
 
-from neatbooks.making import least_costs
+from neatbooks.making import Least, least_costs
 
 HOLE = ("_",)
 
@@ -26,33 +26,16 @@ def around(sign, parts):
     return ((sign,) + tuple([one for one, _ in parts]), (sign,) + tuple([other for _, other in parts]))
 
 
-class Meeting:
-    """The pairs of a class of each of two halls that have some term in common, each with a least such term.
-
-    The rows are as least_costs asks for them, their notes being signs: the ways of the pairs.
-    """
+class Meeting(Least):
+    """The pairs of a class of each of two halls that have some term in common, each with a least such term."""
 
     def __init__(self, one, other):
-        self.rows = []
+        rows = []
         others = ways_by_sign(other.table)
         for (sign, parts), made in one.table.items():
             for other_parts, other_made in others.get(sign, []):
-                self.rows.append(((made, other_made), 1, tuple(zip(parts, other_parts)), sign))
-        self.costs = least_costs(self.rows)
-        self.least = {}
-        for pair, (_, number) in self.costs.items():
-            _, _, parts, sign = self.rows[number]
-            self.least[pair] = (sign,) + tuple([self.least[part] for part in parts])
-
-    def sized_ways(self):
-        """For each pair the list of the pairs (size, term), one for each of its ways, of what is least made in it."""
-        found = {}
-        for made, _, parts, sign in self.rows:
-            if all([part in self.costs for part in parts]):
-                size = 1 + sum([self.costs[part][0] for part in parts])
-                term = (sign,) + tuple([self.least[part] for part in parts])
-                found.setdefault(made, []).append((size, term))
-        return list(found.values())
+                rows.append(((made, other_made), 1, tuple(zip(parts, other_parts)), sign))
+        Least.__init__(self, rows)
 
 
 class Tie:

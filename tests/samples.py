@@ -3,6 +3,7 @@
 from itertools import product
 from random import Random
 
+from neatbooks.changing import joined, with_line
 from neatbooks.errors import LoreError, NoName, NoTerm
 from neatbooks.hall import ways
 from neatbooks.lores import Lore, is_term
@@ -126,6 +127,30 @@ def some_term(random, signs, depth):
     pairs = [pair for pair in signs if depth > 1 or pair[1] == 0]
     sign, places = random.choice(pairs)
     return (sign,) + tuple(some_term(random, signs, depth - 1) for _ in range(places))
+
+
+def small_terms(signs, most_size, most):
+    """All terms of some signs up to a size, or somewhat more than a number of them."""
+    rows = [[]]
+    while len(rows) <= most_size and sum(map(len, rows)) < most:
+        size = len(rows)
+        row = [(sign,) for sign, places in signs if places == 0 and size == 1]
+        row += [(sign, part) for sign, places in signs if places == 1 for part in rows[size - 1]]
+        for k in range(1, size - 1):
+            row += [(s, p, q) for s, places in signs if places == 2 for p in rows[k] for q in rows[size - 1 - k]]
+        rows.append(row)
+    return [term for row in rows for term in row]
+
+
+def marks_of(lore, terms):
+    """What equal terms have in common, for each term: its class, or its sign and what its parts have."""
+    table = {way: number for number, row in enumerate(ways(lore)) for way in row}
+
+    def mark(term):
+        way = (term[0], tuple(mark(part) for part in term[1:]))
+        return table.get(way, way)
+
+    return [mark(term) for term in terms]
 
 
 def some_lores(many, most_lines=4, depth=3):
@@ -335,3 +360,25 @@ def no_books(lore, rules):
     found += [rules + ((thing, A),) for thing in odd_things() if not is_term(lore, thing)]
     found += [rules + (thing,) for thing in odd_things()]
     return found + [thing for thing in odd_things() if thing != ()] + [((chain("f", 57, ["a"]), A),)]
+
+
+DOUBLED = ("a", "da", "db", "dc", "dd", "de", "df", "dg", "dh")
+
+
+def sized(size):
+    """A term that has so many signs, if the names for a's doublings are told."""
+    if size % 2 == 0:
+        return ("u", sized(size - 1))
+    k = max(k for k in range(9) if 2 ** (k + 1) - 1 <= size)
+    name = (DOUBLED[k],)
+    return name if size == 2 ** (k + 1) - 1 else h(name, sized(size - 2 ** (k + 1)))
+
+
+def with_names(signs, lines):
+    """A lore with names for a's doublings, further signs and further lines."""
+    lore = Lore(tuple((name, 0) for name in DOUBLED) + (("h", 2), ("u", 1)), tuple(
+        ((other,), h((one,), (one,))) for one, other in zip(DOUBLED, DOUBLED[1:])))
+    lore = joined(lore, Lore(signs, ()))
+    for line in lines:
+        lore = with_line(lore, line)
+    return lore

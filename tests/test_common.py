@@ -9,12 +9,12 @@ from neatbooks.closure import Hall
 from neatbooks.common import common, endless, is_endless, line_of, ties_of
 from neatbooks.errors import NoEndless, NoNumber, OtherSigns, TooMany
 from neatbooks.gathering import Gathering, Spread
-from neatbooks.hall import classes, equal, ways
+from neatbooks.hall import classes, equal
 from neatbooks.lines import alike, first_untold, load
 from neatbooks.lores import Lore, is_term
 from neatbooks.meeting import Meeting
 from tests.samples import A, B, BARE, C, FOUR, LOOP, ONE, REST, TWICE, TWO, WIDE, are_equal, chain, f, g, h, how_great
-from tests.samples import nested, odd_things, replaced, some_term, spots_of, told
+from tests.samples import marks_of, nested, odd_things, replaced, small_terms, some_term, spots_of, told
 
 HOLE = ("_",)
 EXAMPLE = (0, A, B, f(HOLE), f(HOLE), g(HOLE), g(HOLE))
@@ -22,19 +22,6 @@ SIGNS = (
     LOOP.signs, TWO.signs, FOUR.signs, (("a", 0), ("h", 2)), (("a", 0), ("b", 0), ("h", 2)),
     (("a", 0), ("b", 0), ("f", 1), ("h", 2)), (("a", 0), ("b", 0), ("c", 0), ("f", 1), ("h", 2)),
 )
-
-
-def small_terms(signs, most_size, most):
-    """All terms of some signs up to a size, or somewhat more than a number of them."""
-    rows = [[]]
-    while len(rows) <= most_size and sum(map(len, rows)) < most:
-        size = len(rows)
-        row = [(sign,) for sign, places in signs if places == 0 and size == 1]
-        row += [(sign, part) for sign, places in signs if places == 1 for part in rows[size - 1]]
-        for k in range(1, size - 1):
-            row += [(s, p, q) for s, places in signs if places == 2 for p in rows[k] for q in rows[size - 1 - k]]
-        rows.append(row)
-    return [term for row in rows for term in row]
 
 
 def some_pairs(many):
@@ -83,17 +70,6 @@ def slow_is_endless(one, other, thing):
     if left[0] != right[0] or not are_equal(tied, left, right):
         return False
     return any(not are_equal(tied, part, further) for part, further in zip(left[1:], right[1:]))
-
-
-def marks_of(lore, terms):
-    """What equal terms have in common, for each term: its class, or its sign and what its parts have."""
-    table = {way: number for number, row in enumerate(ways(lore)) for way in row}
-
-    def mark(term):
-        way = (term[0], tuple(mark(part) for part in term[1:]))
-        return table.get(way, way)
-
-    return [mark(term) for term in terms]
 
 
 def doubled(term, many):
