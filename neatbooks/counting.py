@@ -2,46 +2,11 @@
 
 from neatbooks.closure import Hall
 from neatbooks.errors import NoNumber, TooMany
-from neatbooks.making import option_masks
-from neatbooks.picks import all_made, all_options, need_pick
+from neatbooks.knots import count_fitting
+from neatbooks.picks import all_options, can_complete, need_pick
 from neatbooks.shapes import is_number_below
 
 MOST_CHOOSING = 11
-
-
-def count_of(masks, ahead):
-    """How many of some masks need nothing but what is ahead."""
-    return len([mask for mask in masks if mask & ahead == mask])
-
-
-def add_unneeded(counts, rows, ahead):
-    """Adds what a set of classes brings to the greater sets, the classes that come being needed by none of these."""
-    here = [count_of(masks, ahead) for masks in rows]
-    others = len(counts) - 1 - ahead
-    products = {0: -counts[ahead]}
-    come = others & -others
-    while come > 0:
-        low = come & -come
-        products[come] = -products[come - low] * here[low.bit_length() - 1]
-        counts[ahead + come] += products[come]
-        come = (come - others) & others
-
-
-def count_fitting(options):
-    """How many choices of an option for each class do not go round.
-
-    Set by set of classes: where just these are chosen, some of them are needed by none, and
-    the others do not go round. As it may be told of more than one set that it is needed by
-    none, the sets are added and taken away by turns, by how many classes they have.
-    """
-    rows = option_masks(options)
-    if rows is None:
-        return 0
-    counts = [0] * (1 << len(rows))
-    counts[0] = 1
-    for ahead in range(1 << len(rows)):
-        add_unneeded(counts, rows, ahead)
-    return counts[-1]
 
 
 def need_few_choosing(ways):
@@ -98,13 +63,5 @@ def all_picks(ways):
     found = [()]
     for row in ways:
         longer = [pick + (way,) for pick in found for way in range(len(row))]
-        found = [pick for pick in longer if len(row) == 1 or can_go_on(ways, pick)]
+        found = [pick for pick in longer if len(row) == 1 or can_complete(ways, dict(enumerate(pick)))]
     return found
-
-
-def can_go_on(ways, beginning):
-    """Whether some pick begins with some chosen ways."""
-    options = all_options(ways)
-    for number, way in enumerate(beginning):
-        options[number] = [options[number][way]]
-    return all_made(options)

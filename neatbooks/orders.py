@@ -2,8 +2,9 @@
 
 from neatbooks.books import need_work
 from neatbooks.closure import Hall
-from neatbooks.counting import all_picks, count_fitting, need_few_choosing
+from neatbooks.counting import all_picks, need_few_choosing
 from neatbooks.errors import NoRanks, TooMany
+from neatbooks.knots import count_fitting
 from neatbooks.lores import is_term, need_term
 from neatbooks.making import making
 from neatbooks.picks import all_options

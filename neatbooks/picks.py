@@ -132,11 +132,22 @@ def are_wishes(ways, thing):
     return True
 
 
-def completed_ways(ways, wishes):
-    """The least pick that has told ways for some classes, None if there is none."""
+def options_with(ways, wishes):
+    """For each class the list of the parts of its ways, or of the told one alone where it has one."""
     options = all_options(ways)
     for number, way in wishes.items():
         options[number] = [options[number][way]]
+    return options
+
+
+def can_complete(ways, wishes):
+    """Whether some pick has told ways for some classes."""
+    return all_made(options_with(ways, wishes))
+
+
+def completed_ways(ways, wishes):
+    """The least pick that has told ways for some classes, None if there is none."""
+    options = options_with(ways, wishes)
     if not all_made(options):
         return None
     pick = []
