@@ -109,12 +109,16 @@ def answers(lore, pick):
     return tuple([made.bank.terms[number] for number in made.numbers])
 
 
-def book(lore, pick):
-    """The tuple of the rules of a pick, by left sides, ascending."""
-    made = small_making(lore, pick)
+def rules_of(made):
+    """The tuple of the rules of a making, by left sides, ascending."""
     terms = made.bank.terms
     rules = [(terms[left], terms[right]) for left, right in made.pairs]
     return tuple(sorted(rules, key=lambda rule: order_key(rule[0])))
+
+
+def book(lore, pick):
+    """The tuple of the rules of a pick, by left sides, ascending."""
+    return rules_of(small_making(lore, pick))
 
 
 def pick_of(lore, book):

@@ -117,31 +117,47 @@ def line_of_row(places, row):
     return (one, other)
 
 
-def take_row(places, lines, row):
-    """Takes a row of a lore's text into the places or the lines: whether it may stand here."""
+def take_row(places, found, row, reader):
+    """Takes a row, a sign's or one for a reader, into the places or into what is found: whether it may stand here."""
     pair = sign_of_row(row)
     if pair is not None:
-        if len(lines) > 0 or pair[0] in places:
+        if len(found) > 0 or pair[0] in places:
             return False
         places[pair[0]] = pair[1]
         return True
-    line = line_of_row(places, row)
-    if line is None:
+    thing = reader(places, row)
+    if thing is None:
         return False
-    lines.append(line)
+    found.append(thing)
     return True
+
+
+def rows_read(text, reader):
+    """What a text tells up to its first wrong row: its signs, what a reader reads of the others, this row or None.
+
+    The signs are a dict, as they stand; the rows are counted from 1, and what stands behind the
+    last line feed is a wrong one.
+    """
+    rows = text.split("\n")
+    places = {}
+    found = []
+    for number, row in enumerate(rows[:-1]):
+        if not take_row(places, found, row, reader):
+            return (places, found, number + 1)
+    return (places, found, None if rows[-1] == "" else len(rows))
+
+
+def read_whole(text, reader):
+    """The pair of the tuple of the signs of a text and of the tuple of what a reader reads of its other rows."""
+    if not isinstance(text, str):
+        raise BadText(0)
+    places, found, wrong = rows_read(text, reader)
+    if wrong is not None:
+        raise BadText(wrong)
+    return (tuple(places.items()), tuple(found))
 
 
 def read_lore(text):
     """The lore of a text."""
-    if not isinstance(text, str):
-        raise BadText(0)
-    rows = text.split("\n")
-    places = {}
-    lines = []
-    for number, row in enumerate(rows[:-1]):
-        if not take_row(places, lines, row):
-            raise BadText(number + 1)
-    if rows[-1] != "":
-        raise BadText(len(rows))
-    return Lore(tuple(places.items()), tuple(lines))
+    signs, lines = read_whole(text, line_of_row)
+    return Lore(signs, lines)

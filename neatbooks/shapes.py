@@ -1,7 +1,9 @@
 """Flags for the plain kinds of things: numbers, lots, signs. Each judges any object."""
 
 LETTERS = "abcdefghijklmnopqrstuvwxyz"
+FIGURES = "0123456789"
 MOST_LETTERS = 8
+MOST_FIGURES = 9
 MOST_PLACES = 2
 MOST_SIGNS = 12
 
@@ -54,3 +56,10 @@ def are_signs(thing):
     if not all([thing[k][0] < thing[k + 1][0] for k in range(len(thing) - 1)]):
         return False
     return any([places == 0 for _, places in thing])
+
+
+def is_number_text(text):
+    """Whether a text is a number of 1 to 9 figures without needless zeros."""
+    if not 1 <= len(text) <= MOST_FIGURES or not all([letter in FIGURES for letter in text]):
+        return False
+    return len(text) == 1 or text[0] != "0"

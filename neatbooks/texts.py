@@ -22,9 +22,16 @@ def term_text(lore, term):
     return text_of(term)
 
 
+def line_text(line):
+    """The text of a line."""
+    return text_of(line[0]) + " = " + text_of(line[1])
+
+
+def signs_text(signs):
+    """A row for each sign."""
+    return "".join([f"sign {sign} {places}\n" for sign, places in signs])
+
+
 def lore_text(lore):
     """The text of a lore: a row for each sign, then one for each line."""
-    rows = [f"sign {sign} {places}\n" for sign, places in lore.signs]
-    for one, other in lore.lines:
-        rows.append(text_of(one) + " = " + text_of(other) + "\n")
-    return "".join(rows)
+    return signs_text(lore.signs) + "".join([line_text(line) + "\n" for line in lore.lines])
