@@ -1,6 +1,6 @@
 """Which terms are equal by the lines, like for like: the classes of told terms and their ways."""
 
-from neatbooks.trees import Bank, from_within, order_key
+from neatbooks.trees import Bank, ascending, from_within
 
 
 class Merger:
@@ -22,10 +22,10 @@ class Merger:
         return number
 
     def unite(self, one, other, line):
-        """Unites two numbers, if they are not."""
-        home = self.home(one)
-        if home != self.home(other):
-            self.homes[home] = self.home(other)
+        """Unites two numbers, if they are not; the home of the one stays, so that ways told by it stay right."""
+        home = self.home(other)
+        if home != self.home(one):
+            self.homes[home] = self.home(one)
             self.edges.append((one, other, line))
 
     def unite_likes(self, shapes):
@@ -48,11 +48,6 @@ def united(shapes, pairs):
     return merger
 
 
-def ascending(terms):
-    """The list of the numbers of some terms, in the order of the terms."""
-    return sorted(range(len(terms)), key=lambda number: order_key(terms[number]))
-
-
 class Hall:
     """The classes of a lore's told terms, their ways, and a table from ways to classes."""
 
@@ -62,7 +57,7 @@ class Hall:
         merger = united(bank.shapes, pairs)
         numbers = {}
         members = []
-        for told in ascending(bank.terms):
+        for told in ascending(bank):
             home = merger.home(told)
             if home not in numbers:
                 numbers[home] = len(members)

@@ -2,7 +2,7 @@
 
 from neatbooks.errors import BadLore, NoTerm
 from neatbooks.shapes import are_signs, is_tuple_of
-from neatbooks.trees import Bank, fits, nodes, order_key, words
+from neatbooks.trees import Bank, ascending, fits, nodes, words
 
 MOST_LINES = 24
 MOST_TOLD = 60
@@ -41,11 +41,16 @@ def fits_line(places, thing):
     return is_tuple_of(thing, 2) and fits(places, thing[0]) and fits(places, thing[1])
 
 
-def told_in(lines):
-    """The list of the unlike terms within the sides of some lines."""
+def bank_of_told(lines):
+    """The bank of the unlike terms within the sides of some lines."""
     bank = Bank()
     bank.take_lines(lines)
-    return bank.terms
+    return bank
+
+
+def told_in(lines):
+    """The list of the unlike terms within the sides of some lines."""
+    return bank_of_told(lines).terms
 
 
 def unbounded(signs, lines):
@@ -80,4 +85,5 @@ def size(lore, term):
 
 def told_terms(lore):
     """The ascending tuple of the terms within the sides of a lore's lines."""
-    return tuple(sorted(told_in(lore.lines), key=order_key))
+    bank = bank_of_told(lore.lines)
+    return tuple([bank.terms[number] for number in ascending(bank)])

@@ -10,8 +10,6 @@ from neatbooks.lores import need_term, unbounded
 from neatbooks.making import Least
 from neatbooks.shapes import is_integer
 
-MOST_THINGS = 10 ** 30
-
 
 def reduced(top, bottom):
     """The fraction in lowest terms."""
@@ -45,7 +43,7 @@ def counted(hall):
 
 def is_many(thing):
     """Whether a thing is a number of things for which a share is told."""
-    return is_integer(thing) and 1 <= thing <= MOST_THINGS
+    return is_integer(thing) and 1 <= thing <= 10 ** 30
 
 
 def share_of(hall, many):

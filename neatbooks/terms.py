@@ -36,8 +36,8 @@ def count_rows(hall, size):
                 news[made] += rows[parts[0]][total]
             else:
                 news[made] += count_pairs(rows[parts[0]], rows[parts[1]], total)
-        for row, many in zip(rows, news):
-            row.append(many)
+        for number, many in enumerate(news):
+            rows[number].append(many)
     return rows
 
 

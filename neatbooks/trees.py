@@ -76,3 +76,15 @@ class Bank:
     def take_lines(self, lines):
         """The pairs of numbers of the sides of some lines."""
         return [(self.take(one), self.take(other)) for one, other in lines]
+
+
+def ascending(bank):
+    """The list of the numbers of a bank's terms, in the order of the terms: words are asked for where sizes tie."""
+    sizes = []
+    many = {}
+    for _, parts in bank.shapes:
+        size = 1 + sum([sizes[part] for part in parts])
+        sizes.append(size)
+        many[size] = many.get(size, 0) + 1
+    keys = [(size, words(term) if many[size] > 1 else ()) for size, term in zip(sizes, bank.terms)]
+    return sorted(range(len(keys)), key=lambda number: keys[number])
