@@ -168,6 +168,20 @@ class Refused(Checks):
         ]:
             self.check_refused(desk, NoForm, line)
 
+    def test_words_of_each_kind(self):
+        desk = self.desk(x=TWO)
+        forms = ["drop NAME", "show NAME", "equal NAME a b", "worth NAME", "picks NAME", "book NAME NUMBER", "fall NAME",
+                 "answer NAME NUMBER a", "wrong NAME NUMBER a", "share NAME NUMBER", f"lore NAME {text_of(LOOP)}"]
+        for form in forms:
+            for name in ("X", "x1", "abcdefghi", "x-y", "", "1", "xX", "a_b", "x\t"):
+                self.check_refused(desk, NoForm, form.replace("NAME", name).replace("NUMBER", "1"))
+            if not form.startswith("lore"):
+                self.check_refused(desk, NoName, form.replace("NAME", "abcdefgh").replace("NUMBER", "1"), name="abcdefgh")
+            if "NUMBER" in form:
+                for number in ("00", "01", "-1", "1234567890", "0000000001", "a", "", "1a", "1.5", "+1", "1_0", "\t1", "0x1"):
+                    self.check_refused(desk, NoForm, form.replace("NAME", "x").replace("NUMBER", number))
+                self.check_refused(desk, NoName, form.replace("NAME", "y").replace("NUMBER", "999999999"), name="y")
+
     def test_what_read_lore_raises(self):
         desk = self.desk(x=TWO)
         for text, place in (

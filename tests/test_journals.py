@@ -211,7 +211,8 @@ class Recovered(Checks):
 
     def test_signs_of_which_a_beginning_is_let(self):
         for text, many in (
-            ("sign b 0\nsign a 0\n", 1), ("sign b 0\nsign c 0\nsign a 0\nwish b\n", 2), ("sign b 0\nsign b 0\n", 1),
+            ("sign b 0\nsign a 0\n", 1), ("sign b 0\nsign a 0\nsign c 0\n", 1), ("sign b 0\nsign a 0\nsign aa 0\nsign c 0\n", 1),
+            ("sign b 0\nsign c 0\nsign a 0\nwish b\n", 2), ("sign b 0\nsign b 0\n", 1),
             ("".join(f"sign {name} 0\n" for name in "abcdefghijklm") + "wish a\n", 12), ("sign f 1\nsign g 0\nsign a 0\n", 2),
             ("sign b 0\nsign a 0\ndrop 0\nwish c\n", 1), ("sign a 0\nsign b 3\nsign c 0\n", 1),
             ("sign a 0\nwish b\nsign b 0\n", 1), ("sign a 0\nwish a\nsign b 0\nwish a\n", 2), ("sign a 0\n\n", 1),
