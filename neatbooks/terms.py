@@ -2,6 +2,7 @@
 
 from neatbooks.closure import Hall
 from neatbooks.errors import NoClass, NoNumber
+from neatbooks.making import made_order
 from neatbooks.shapes import is_integer, is_number_below
 
 MOST_SIZE = 60
@@ -64,6 +65,11 @@ class Seeker:
         for (sign, parts), made in sorted(hall.table.items()):
             self.ways.setdefault(sign, []).append((parts, made))
 
+    def places_of(self, sign):
+        """How many places a sign has."""
+        parts, _ = self.ways[sign][0]
+        return len(parts)
+
     def asked(self, sign, demand, known, used):
         """The demand on the part behind known ones, of these classes and of a size together, of what a sign makes."""
         found = {}
@@ -84,9 +90,8 @@ class Seeker:
 
     def how_many(self, sign, demand):
         """How many of the terms begin with a sign."""
-        parts, made = self.ways[sign][0]
-        if len(parts) == 0:
-            return demand.get(made, {}).get(1, 0)
+        if self.places_of(sign) == 0:
+            return demand.get(self.table[(sign, ())], {}).get(1, 0)
         asked = self.asked(sign, demand, (), 0)
         return sum([many * self.rows[part][size] for part in asked for size, many in asked[part].items()])
 
@@ -108,7 +113,7 @@ class Seeker:
         made = []
         known = ()
         used = 0
-        for _ in self.ways[sign][0][0]:
+        for _ in range(self.places_of(sign)):
             part, number, size, index = self.seek(self.asked(sign, demand, known, used), index)
             made.append(part)
             known = known + (number,)
@@ -128,22 +133,12 @@ def term_at(lore, number, size, index):
     return term
 
 
-def parts_within(hall, number):
-    """The ascending list of the classes that stand, by whichever ways, among what a class is made of."""
-    found = {}
-    left = [number]
-    while len(left) > 0:
-        for _, parts in hall.ways[left.pop()]:
-            for part in parts:
-                if part not in found:
-                    found[part] = True
-                    left.append(part)
-    return sorted(found)
-
-
 def has_endless(lore, number):
-    """Whether endlessly many terms are equal to the terms of a class."""
+    """Whether endlessly many terms are equal to the terms of a class.
+
+    They are if it stands, by whichever ways, among what it is made of, or is made of such a class.
+    """
     hall = Hall(lore)
     need_class(hall, number)
-    below = parts_within(hall, number)
-    return any([part in parts_within(hall, part) for part in below])
+    parts = [[part for _, numbers in row for part in numbers] for row in hall.ways]
+    return number not in made_order(parts)
