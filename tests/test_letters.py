@@ -9,7 +9,7 @@ from neatbooks.letters import is_letters, letters
 from neatbooks.lines import alike, load, tells
 from neatbooks.lores import Lore, is_term
 from neatbooks.some import about
-from tests.samples import A, B, BARE, C, FOUR, LOOP, ONE, REST, TWO, are_equal, chain, f, g, h, marks_of, odd_things
+from tests.samples import A, B, BARE, C, FOUR, LOOP, ONE, TWO, are_equal, chain, f, g, marks_of, odd_things
 from tests.samples import replaced, sized, small_terms, some_term, told, with_names
 
 # For each pair the signs that both have, those of the one alone, those of the other alone.

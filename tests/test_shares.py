@@ -12,7 +12,7 @@ from neatbooks.lines import first_untold, load
 from neatbooks.lores import Lore, is_term
 from neatbooks.shares import fall, level, long_run, share, share_equal, told_by
 from neatbooks.worlds import keeps
-from tests.samples import A, B, BARE, C, FOUR, LOOP, ONE, REST, TWICE, TWO, WIDE, chain, f, g, h, nested, odd_things
+from tests.samples import A, B, BARE, C, FOUR, LOOP, REST, TWO, WIDE, chain, f, g, h, nested, odd_things
 from tests.samples import small_terms
 from tests.test_joinings import free_signs, slow_joinings, slow_ways, some_small
 

@@ -3,6 +3,7 @@
 import importlib
 import inspect
 import re
+import sys
 import unittest
 from copy import deepcopy
 from random import Random
@@ -36,8 +37,8 @@ from neatbooks.texts import lore_text, term_text
 from neatbooks.trees import words
 from neatbooks.weights import least_pick, least_weight, least_weights
 from neatbooks.worlds import first_broken, is_parting, keeps, value, world
-from tests.samples import A, B, BARE, FOUR, LOOP, ONE, REST, TWICE, TWO, WIDE, chain, f, g, h, layers, nested, odd_things
-from tests.samples import some_lores, some_term, told
+from tests.samples import A, B, BARE, FOUR, LOOP, ONE, REST, TWICE, TWO, chain, f, g, layers, nested, odd_things
+from tests.samples import row_of_signs, some_lores, some_term, told
 from tests.test_joinings import free_signs
 
 INTERFACE = {
@@ -283,6 +284,29 @@ class Errors(unittest.TestCase):
                 if flag:
                     right.append((number, thing))
         self.assertEqual(right, [(0, A), (3, (0, 0)), (11, (0, 0))])
+
+
+class Shallow(unittest.TestCase):
+    """No call goes deeper than a few hundred calls of Python."""
+
+    def test_with_a_low_limit(self):
+        row = ring_row() + [
+            (term_at, [LOOP, 0, 60, 0]), (count_picks, [row_of_signs(11, True)]), (pick_at, [row_of_signs(11, True), 2046]),
+            (count_picks, [layers(11)]), (count_joinings, [free_signs(9)]), (is_paper, [TWO, A, A, nested(lambda p: [p], 59)]),
+            (is_bar, [TWO, BOOK, nested(lambda p: ("cases", A, B, p, p), 12)]), (is_term, [TWO, nested(lambda p: ("f", p), 59)]),
+            (lambda text: recovered(text)[1], [JOURNAL + "wish a\n" * 12]), (count_terms, [LOOP, 0, 60]),
+            (is_letters, [TWO, FOUR, nested(lambda p: [p], 59)]), (is_joining, [TWO, nested(lambda p: (0, p), 59)]),
+        ]
+        limit = sys.getrecursionlimit()
+        depth = len(inspect.stack(0))
+        for call, parts in row:
+            expected = call(*parts)
+            sys.setrecursionlimit(depth + 250)
+            try:
+                found = call(*parts)
+            finally:
+                sys.setrecursionlimit(limit)
+            self.assertEqual(found, expected)
 
 
 class Great(unittest.TestCase):
